@@ -1,0 +1,1 @@
+"""Sightstone: a stone carved from pictures of it."""
