@@ -97,3 +97,11 @@ def check_own_answer(test, function, *handed):
     first.clear()
     test.assertEqual(handed, before)
     test.assertEqual(function(*handed), kept)
+
+
+def check_handed_stays(test, function, *handed):
+    """What is handed in stays, and the same answer is told again."""
+    before = deepcopy(handed)
+    first = function(*handed)
+    test.assertEqual(handed, before)
+    test.assertEqual(function(*handed), first)

@@ -1,6 +1,7 @@
 """The rules of the language that plain reading of the package can check."""
 
 import ast
+import builtins
 import re
 import tokenize
 import unittest
@@ -46,6 +47,32 @@ def bound_names(tree):
         elif isinstance(node, ast.ExceptHandler) and node.name:
             names.add(node.name)
     return names
+
+
+def local_names(tree):
+    """All names that the functions of a file bind for themselves: parameters, variables, nested functions."""
+    names = set()
+    for function in [node for node in ast.walk(tree) if isinstance(node, ast.FunctionDef)]:
+        for node in ast.walk(function):
+            if isinstance(node, ast.arg):
+                names.add(node.arg)
+            elif isinstance(node, ast.Name) and not isinstance(node.ctx, ast.Load):
+                names.add(node.id)
+            elif isinstance(node, ast.FunctionDef) and node != function:
+                names.add(node.name)
+    return names
+
+
+def methods_and_attributes():
+    """The names of all methods of the package, and those of all attributes that it assigns."""
+    methods, attributes = set(), set()
+    for name, tree in trees():
+        for node in ast.walk(tree):
+            if isinstance(node, ast.ClassDef):
+                methods |= {part.name for part in node.body if isinstance(part, ast.FunctionDef)}
+            elif isinstance(node, ast.Attribute) and isinstance(node.ctx, ast.Store):
+                attributes.add(node.attr)
+    return methods, attributes
 
 
 class Language(unittest.TestCase):
@@ -103,6 +130,22 @@ class Language(unittest.TestCase):
             for node in ast.walk(tree):
                 if isinstance(node, ast.Name) and isinstance(node.ctx, ast.Load):
                     self.assertIn(node.id, bound | BUILTINS, (name, node.lineno))
+
+    def test_local_names_mean_nothing_else(self):
+        for name, tree in trees():
+            taken = set(dir(builtins))
+            for node in ast.walk(tree):
+                if isinstance(node, ast.ClassDef):
+                    taken.add(node.name)
+                elif isinstance(node, ast.alias):
+                    taken.add(node.asname or node.name)
+            self.assertEqual(sorted(local_names(tree) & taken), [], name)
+
+    def test_no_name_is_both_a_method_and_an_attribute(self):
+        methods, attributes = methods_and_attributes()
+        self.assertEqual(sorted(methods & attributes), [])
+        for value in ("", b"", 0, [], {}, set(), ()):
+            self.assertEqual(sorted(attributes & set(dir(value))), [])
 
     def test_module_level(self):
         for name, tree in trees():
