@@ -2,6 +2,7 @@
 
 from copy import deepcopy
 from math import gcd
+from time import perf_counter
 
 BLOCKS = [
     (1, 1, 1), (1, 1, 6), (1, 6, 1), (6, 1, 1), (2, 2, 2), (2, 3, 4), (4, 3, 2),
@@ -105,3 +106,11 @@ def check_handed_stays(test, function, *handed):
     first = function(*handed)
     test.assertEqual(handed, before)
     test.assertEqual(function(*handed), first)
+
+
+def check_soon(test, function, *handed):
+    """The answer of the function, which comes within a few seconds."""
+    start = perf_counter()
+    answer = function(*handed)
+    test.assertLess(perf_counter() - start, 4, function.__name__)
+    return answer

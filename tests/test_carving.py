@@ -2,15 +2,14 @@
 
 import unittest
 from copy import deepcopy
-from time import perf_counter
 
 from plain_looks import (
     Dice, EIGHT_WAYS, LETTERS, all_stones, check_arguments, great_looks, many_looks, plain_bare, plain_barred,
     plain_carve, plain_doors, plain_painted, plain_shows, plain_snapped, thrown_looks,
 )
 from samples import (
-    FEW_WAYS, GREAT, WAYS, check_handed_stays, check_own_answer, check_plain_tuple, check_stone, plain_places,
-    some_stones,
+    FEW_WAYS, GREAT, WAYS, check_handed_stays, check_own_answer, check_plain_tuple, check_soon, check_stone,
+    plain_places, some_stones,
 )
 from sightstone.carving import carve, greatest, thinned, verdict
 
@@ -292,12 +291,6 @@ class Thinned(unittest.TestCase):
 
 
 class GreatBlock(unittest.TestCase):
-    def check_soon(self, function, *handed):
-        start = perf_counter()
-        answer = function(*handed)
-        self.assertLess(perf_counter() - start, 5, function.__name__)
-        return answer
-
     def test_each_answers_soon(self):
         sizes = (6, 6, 6)
         whole = plain_places(sizes)
@@ -305,14 +298,14 @@ class GreatBlock(unittest.TestCase):
         skies = thrown_looks(dice, sizes, EIGHT_WAYS, ".")
         letters = thrown_looks(dice, sizes, EIGHT_WAYS, LETTERS)
         for looks in (great_looks(5), great_looks(6), skies, letters):
-            left = self.check_soon(greatest, sizes, looks)
+            left = check_soon(self, greatest, sizes, looks)
             for picks in ([], [-1] * 300):
-                answer = self.check_soon(carve, sizes, looks, whole, picks)
+                answer = check_soon(self, carve, sizes, looks, whole, picks)
                 self.assertEqual(answer[0], left)
                 self.assertEqual(len(answer[0]) + len(answer[1]), 216)
             self.assertEqual(plain_barred(sizes, looks, left), [])
-            self.check_soon(verdict, sizes, looks)
-            kept = self.check_soon(thinned, sizes, looks)
+            check_soon(self, verdict, sizes, looks)
+            kept = check_soon(self, thinned, sizes, looks)
             self.assertEqual(greatest(sizes, [looks[number] for number in kept]), left)
 
     def test_the_paper_is_right(self):

@@ -152,9 +152,9 @@ class MovedLook(unittest.TestCase):
                 looks = thrown_looks(dice, sizes, [dice.one_of(FEW_WAYS) for turn in range(5)], SIGNS)
                 there = [moved_look(sizes, move, look) for look in looks]
                 stone = dice.stone(sizes)
+                block, moved = plain_block(sizes, move), plain_stone(sizes, move, stone)
                 for grain in stone:
-                    told = plain_told(
-                        plain_block(sizes, move), there, plain_stone(sizes, move, stone), plain_place(sizes, move, grain))
+                    told = plain_told(block, there, moved, plain_place(sizes, move, grain))
                     self.assertEqual(told, plain_told(sizes, looks, stone, grain))
 
     def test_carving_of_the_moved_looks_leaves_the_moved_stone(self):

@@ -2,13 +2,12 @@
 
 import unittest
 from itertools import combinations
-from time import perf_counter
 
 from plain_looks import (
     Dice, EIGHT_WAYS, SIGNS, check_arguments, great_looks, many_looks, plain_bar, plain_carve, plain_told, thrown_looks,
 )
 from plain_papers import plain_because, plain_fault, plain_stands, rows_stand
-from samples import FEW_WAYS, GREAT, check_handed_stays, check_own_answer, plain_places, some_stones
+from samples import FEW_WAYS, GREAT, check_handed_stays, check_own_answer, check_soon, plain_places, some_stones
 from sightstone.carving import carve
 from sightstone.papers import because, fault_of
 
@@ -376,12 +375,6 @@ class Answers(unittest.TestCase):
 
 
 class GreatBlock(unittest.TestCase):
-    def check_soon(self, function, *handed):
-        start = perf_counter()
-        answer = function(*handed)
-        self.assertLess(perf_counter() - start, 4, function.__name__)
-        return answer
-
     def test_each_answers_soon(self):
         sizes = (6, 6, 6)
         whole = plain_places(sizes)
@@ -392,8 +385,8 @@ class GreatBlock(unittest.TestCase):
             for picks in ([], [-1] * 300):
                 left, paper = carve(sizes, looks, whole, picks)
                 self.assertGreater(len(paper), 30)
-                self.assertIsNone(self.check_soon(fault_of, sizes, looks, whole, paper, left))
-                answer = self.check_soon(because, sizes, looks, whole, paper, paper[-1][0])
+                self.assertIsNone(check_soon(self, fault_of, sizes, looks, whole, paper, left))
+                answer = check_soon(self, because, sizes, looks, whole, paper, paper[-1][0])
                 self.assertEqual(answer, plain_because(sizes, looks, whole, paper, paper[-1][0]))
                 left = [grain for grain in whole if grain not in [row[0] for row in answer]]
                 self.assertIsNone(fault_of(sizes, looks, whole, answer, left))
